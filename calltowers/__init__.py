@@ -1,0 +1,1 @@
+"""Calltowers: promises about programs whose calls are as deep as they like."""
