@@ -1,6 +1,7 @@
 """The package keeps to the language of the project, as far as a short test can see it."""
 
 import ast
+import builtins
 import pathlib
 import unittest
 import warnings
@@ -14,8 +15,9 @@ BUILTINS = {
 }
 METHODS = set("""append clear copy count endswith extend find get index insert isalnum isalpha isdigit islower isspace
     isupper items join keys ljust lower lstrip partition pop remove replace reverse rfind rjust rpartition rsplit rstrip
-    setdefault split splitlines startswith strip update upper values zfill bit_length sort add discard""".split())
-BARRED = {"type", "typing", "enum", "Enum", "Flag", "open", "input", "register", "elements", "law", "mro"}
+    setdefault split splitlines startswith strip update upper values zfill bit_length removeprefix removesuffix sort""".split())
+BARRED = {"typing", "enum", "Enum", "Flag", "register", "elements", "law", "mro", "os", "sys", "gc"}
+TAKEN = BARRED | set(dir(builtins))
 
 
 def files():
@@ -84,13 +86,15 @@ class LanguageTest(unittest.TestCase):
 
     def test_names(self):
         for name, node in nodes(ast.Name):
-            self.assertNotIn(node.id, BARRED, name)
+            self.assertNotIn(node.id, TAKEN - BUILTINS, name)
             if isinstance(node.ctx, ast.Store):
                 self.assertNotIn(node.id, BUILTINS, name)
         for name, node in nodes(ast.arg):
-            self.assertNotIn(node.arg, BARRED | BUILTINS, name)
+            self.assertNotIn(node.arg, TAKEN, name)
         for name, node in nodes(ast.FunctionDef):
-            self.assertNotIn(node.name, BARRED | BUILTINS, name)
+            self.assertNotIn(node.name, TAKEN, name)
+        for name, node in nodes(ast.Attribute):
+            self.assertNotIn(node.attr, BARRED | {"open", "input"}, name)
 
     def test_called_names_are_known(self):
         for name, tree in trees():
