@@ -20,7 +20,8 @@ def expression_text(e):
 def read_expression(text):
     """The expression with exactly this text; None if there is none."""
     read = []
-    # A blank too many leaves an empty word, which is part of no expression.
+    # A blank too many leaves an empty word, which is part of no expression; so does a closing
+    # bracket at the beginning, and there is always something ahead of one.
     for word in text.replace("(", "( ").replace(")", " )").split(" "):
         if word == ")":
             e = put_together(read[-4:])

@@ -7,7 +7,7 @@ from calltowers.programs import is_name
 
 INDENT = "  "
 
-# The word between the bodies of a statement, by the word with which the first body begins.
+# For each word between two bodies, the word with which their statement begins.
 SECONDS = {"ELSE": "IF", "OR": "EITHER"}
 
 
@@ -62,7 +62,7 @@ class OpenBody:
 
     def __init__(self, word, head):
         self.word = word
-        # A statement whose later bodies are still empty, or (name, params, locals) of a procedure.
+        # A statement, or (name, params, locals, body) of a procedure; this body is empty in it so far.
         self.head = head
         self.rows = []
         # Whether it has a line yet, and whether this is the line of an empty body.
