@@ -96,6 +96,21 @@ class LanguageTest(unittest.TestCase):
         for name, node in nodes(ast.Attribute):
             self.assertNotIn(node.attr, BARRED | {"open", "input"}, name)
 
+    def test_no_local_name_is_that_of_an_import_or_a_class(self):
+        for name, tree in trees():
+            taken = {part.name for node in tree.body if isinstance(node, ast.ImportFrom) for part in node.names}
+            taken |= {node.name for node in tree.body if isinstance(node, ast.ClassDef)}
+            bound = {node.id for node in ast.walk(tree) if isinstance(node, ast.Name) and isinstance(node.ctx, ast.Store)}
+            bound |= {node.arg for node in ast.walk(tree) if isinstance(node, ast.arg)}
+            self.assertEqual(taken & bound, set(), name)
+
+    def test_no_name_is_a_method_and_an_attribute(self):
+        for name, node in nodes(ast.ClassDef):
+            methods = {part.name for part in node.body if isinstance(part, ast.FunctionDef)}
+            stored = {part.attr for part in ast.walk(node)
+                      if isinstance(part, ast.Attribute) and isinstance(part.ctx, ast.Store)}
+            self.assertEqual(methods & stored, set(), (name, node.name))
+
     def test_called_names_are_known(self):
         for name, tree in trees():
             defined = {node.name for node in ast.walk(tree) if isinstance(node, (ast.FunctionDef, ast.ClassDef))}
