@@ -1,4 +1,4 @@
-"""Pushdowns in numbers, so that a search in them compares numbers and not states and symbols (point 13)."""
+"""Things and pushdowns in numbers, so that a search compares numbers and not states and symbols (point 13)."""
 
 from calltowers.order import rank
 
@@ -11,6 +11,21 @@ def in_order(things):
 def places_of(things):
     """For each thing its place in a list."""
     return {thing: at for at, thing in enumerate(things)}
+
+
+class Numbering:
+    """Things with numbers, in the order in which they come about."""
+
+    def __init__(self):
+        self.things = []
+        self.places = {}
+
+    def place_of(self, thing):
+        """The number of a thing; it gets one if it has none."""
+        if thing not in self.places:
+            self.places[thing] = len(self.things)
+            self.things.append(thing)
+        return self.places[thing]
 
 
 class Numbered:

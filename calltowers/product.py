@@ -2,7 +2,7 @@
 
 from calltowers.claims import NO_CALL, RETURNING, STAYING, Claims
 from calltowers.endsearch import searched
-from calltowers.numbered import Numbered
+from calltowers.numbered import Numbered, Numbering
 from calltowers.pushdowns import head_of, rules_of
 
 
@@ -13,21 +13,6 @@ def product(program, promise):
     # The search asks for the rules of all heads that can be met, and of no others.
     searched(maker, [start])
     return maker.told_rules() + (maker.told_head(start),)
-
-
-class Table:
-    """Things with numbers, in the order in which they come about."""
-
-    def __init__(self):
-        self.things = []
-        self.places = {}
-
-    def place_of(self, thing):
-        """The number of a thing; it gets one if it has none."""
-        if thing not in self.places:
-            self.places[thing] = len(self.things)
-            self.things.append(thing)
-        return self.places[thing]
 
 
 class ProductRules:
@@ -47,9 +32,9 @@ class ProductRules:
         self.start = head
         self.marks = [rule[4] for rule in rules]
         self.claims = Claims()
-        self.states = Table()
-        self.symbols = Table()
-        self.heads = Table()
+        self.states = Numbering()
+        self.symbols = Numbering()
+        self.heads = Numbering()
         # For each head that was asked for its rules: (index of the program's rule, mark, state, symbols).
         self.rows = {}
 

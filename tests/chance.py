@@ -120,3 +120,60 @@ def rounds_in(numbers, places):
             if (places[end][0], places[end][2]) == (state, top):
                 found.append((tuple(numbers[:start]), tuple(numbers[start:end])))
     return found
+
+
+def some_nested_machine(rng, words, most_nodes=5, most_moves=16):
+    """A nested machine with few nodes and symbols, which are the same numbers in each such machine."""
+    nodes = [7 * at - 3 for at in range(rng.randint(1, most_nodes))]
+    symbols = list(range(rng.randint(1, 3)))
+    moves = []
+    for _ in range(rng.randint(0, most_moves)):
+        start, word, target = rng.choice(nodes), rng.choice(words), rng.choice(nodes)
+        moves.append(rng.choice([
+            ("plain", start, word, target),
+            ("call", start, word, target, rng.choice(symbols)), ("call", start, word, target, rng.choice(symbols)),
+            ("back", start, word, rng.choice(symbols), target), ("back", start, word, rng.choice(symbols + [None]), target),
+        ]))
+    starts, finals = [rng.sample(nodes, min(len(nodes), rng.choice([0, 1, 1, 1, 2]))) for _ in range(2)]
+    return tuple(starts), tuple(moves), tuple(finals)
+
+
+def some_stack_machine(rng, states, symbols):
+    """A machine for stacks, also with edges labelled None and with a symbol that is not among these."""
+    nodes = ["x", "y", ("z", 1), 5, 6][:rng.randint(1, 5)]
+    edges = []
+    for _ in range(rng.randint(0, 14)):
+        start = rng.choice(nodes + list(states))
+        edges.append((start, rng.choice(list(symbols) + [None, "other"]), rng.choice(nodes)))
+    finals = rng.sample(nodes, rng.randint(0, min(2, len(nodes))))
+    if states and rng.random() < 0.3:
+        finals.append(rng.choice(states))
+    return tuple(edges), tuple(finals)
+
+
+def some_danger(rng, rules):
+    """A danger for a program with these rules."""
+    states = list({state: True for p, _, q, _, _ in rules for state in (p, q)})
+    symbols = list({symbol: True for _, s, _, w, _ in rules for symbol in (s,) + w})
+    nodes = ["x", "y", ("z", 1), 5][:rng.randint(1, 4)]
+    edges = [(rng.choice(nodes), rng.choice(symbols + [None]), rng.choice(nodes)) for _ in range(rng.randint(0, 6))]
+    state = rng.choice(states)
+    edges += [(state, symbol, rng.choice(nodes)) for symbol in symbols + [None] if rng.random() < 0.5]
+    edges += [(rng.choice(states), rng.choice(symbols + [None]), rng.choice(nodes)) for _ in range(rng.randint(0, 3))]
+    if rng.random() < 0.4:
+        edges += [(nodes[0], symbol, nodes[0]) for symbol in symbols]
+    finals = rng.sample(nodes, rng.randint(0, len(nodes)))
+    if rng.random() < 0.2:
+        finals.append(rng.choice(states))
+    return tuple(edges), tuple(finals)
+
+
+def changed(rng, told):
+    """A program in which one statement of one procedure is left out, or one is put in."""
+    procs = dict(told["procs"])
+    name = rng.choice(list(procs))
+    params, own, body = procs[name]
+    at = rng.randint(0, len(body))
+    more = rng.choice([(("say", "a"),), (("say", "b"),), (("either", (), (("say", "c"),)),)])
+    procs[name] = (params, own, body[:at] + body[at + 1:] if rng.random() < 0.6 else body[:at] + more + body[at:])
+    return {"globals": told["globals"], "procs": procs}

@@ -1,7 +1,11 @@
 """Slow and plain ways to the same answers, straight from the words of the document."""
 
+import heapq
+import itertools
+
 from calltowers.order import rank
-from calltowers.pushdowns import use
+from calltowers.player import first, step
+from calltowers.pushdowns import head_of, rules_of, use
 
 
 def plain_endings(rules):
@@ -243,3 +247,113 @@ def plain_holds(promise, begin, again, i):
         return False
 
     return true(promise, i)
+
+
+def plain_takes_word(machine, word):
+    """Whether a nested machine takes a word (point 35), by keeping all configurations: pairs of a node and a stack."""
+    starts, moves, finals = machine
+    places = {(node, ()) for node in starts}
+    for kind, name in word:
+        places = {after for place in places for move in moves if move[0] == kind and move[2] == name
+                  for after in after_move(place, move)}
+    return any(node in finals for node, _ in places)
+
+
+def after_move(place, move):
+    """The configurations to which a move leads: one or none."""
+    node, stack = place
+    if move[1] != node:
+        return []
+    if move[0] == "plain":
+        return [(move[3], stack)]
+    if move[0] == "call":
+        return [(move[3], (move[4],) + stack)]
+    if move[3] is None:
+        return [(move[4], ())] if not stack else []
+    return [(move[4], stack[1:])] if stack and stack[0] == move[3] else []
+
+
+def nested_words(words, most):
+    """All nested words made of these words with up to so many letters, in the order of point 36."""
+    letters = sorted((kind, word) for kind in ("call", "back", "plain") for word in words)
+    for size in range(most + 1):
+        yield from itertools.product(letters, repeat=size)
+
+
+def all_plays(told, most):
+    """The configurations of a program: for each of them the steps (rule, configuration); None if too many."""
+    rules = rules_of(told)
+    state, symbol = head_of(told)
+    by_head = {}
+    for number, rule in enumerate(rules):
+        by_head.setdefault(rule[:2], []).append(number)
+    steps, waiting = {}, [(state, (symbol,))]
+    for near in waiting:
+        if near in steps:
+            continue
+        numbers = by_head.get((near[0], near[1][0]), []) if near[1] else []
+        steps[near] = [(number, use(rules[number], near)) for number in numbers]
+        waiting += [after for _, after in steps[near] if after not in steps]
+        if len(steps) > most:
+            return None
+    return steps
+
+
+def least_costs(steps, start, nothing, more):
+    """For each configuration, and for each rule, the least cost of a play to it or with it at its end (Dijkstra)."""
+    best, at_end, done = {start: nothing}, {}, set()
+    # Each entry has a number of its own, so that configurations are never compared.
+    numbers = itertools.count()
+    queue = [(nothing, next(numbers), start)]
+    while queue:
+        cost, _, near = heapq.heappop(queue)
+        if near in done:
+            continue
+        done.add(near)
+        for number, after in steps[near]:
+            total = more(cost, number, after)
+            if number not in at_end or total < at_end[number]:
+                at_end[number] = total
+            if after not in best or total < best[after]:
+                best[after] = total
+                heapq.heappush(queue, (total, next(numbers), after))
+    return best, at_end
+
+
+def longest_run(steps, start):
+    """The greatest number of steps from a configuration; None if it is without end."""
+    most, open_ones, waiting = {}, set(), [(start, False)]
+    while waiting:
+        near, is_left = waiting.pop()
+        if is_left:
+            open_ones.discard(near)
+            most[near] = max([1 + most[after] for _, after in steps[near]], default=0)
+        elif near in open_ones:
+            return None
+        elif near not in most:
+            open_ones.add(near)
+            waiting.append((near, True))
+            waiting += [(after, False) for _, after in steps[near] if after not in most]
+    return most[start]
+
+
+def letter_of(mark):
+    """The letter of point 49."""
+    kind, name = mark
+    return {"say": ("plain", name), "quiet": ("plain", "quiet")}.get(kind, (kind, name))
+
+
+def trace_levels(told, most, limit=2000):
+    """The sets of the traces of 0 letters, 1, 2 and so on, up to most or until there are too many."""
+    level = {(): {first(told)}}
+    levels = [set(level)]
+    while len(levels) <= most and len(level) <= limit:
+        after = {}
+        for word, places in level.items():
+            for place in places:
+                for choice in (0, 1) if place[2] else ():
+                    behind, mark = step(told, place, choice)
+                    after.setdefault(word + (letter_of(mark),), set()).add(behind)
+        level = after
+        levels.append(set(level))
+    return levels
