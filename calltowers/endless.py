@@ -2,6 +2,7 @@
 
 from calltowers.circles import Groups
 from calltowers.endsearch import all_endings, searched, steps_from
+from calltowers.measures import Lengths
 from calltowers.numbered import Numbered
 from calltowers.routes import round_along
 from calltowers.shortest import ShortestPlays
@@ -16,7 +17,7 @@ def endless(rules, head):
     groups = Groups(steps, start)
     choices = groups.marked_within()
     if choices:
-        plays = ShortestPlays(pushdown, list(steps))
+        plays = ShortestPlays(pushdown, list(steps), Lengths())
         return ("marked", round_along(steps, plays, start, choices))
     most = groups.most_marks()
     ranks = tuple([(pushdown.told_head(near), most[near]) for near in sorted(most)])

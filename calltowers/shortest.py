@@ -1,18 +1,19 @@
-"""The shortest plays of endings, and how they are told in parts (points 23 and 25)."""
+"""The shortest plays of endings by any measure, and how they are told in parts (points 23, 25, 45 and 46)."""
 
 from heapq import heappop, heappush
 
 
 class ShortestPlays:
-    """For each ending of some heads a play with the fewest rules.
+    """For each ending of some heads a play that is the shortest one by a measure.
 
     The heads must be all that are met from any of them. Endings are taken in the order of their lengths
     (Knuth), so that an ending that is taken has its shortest play. An ending is a pair: head, and exit.
     """
 
-    def __init__(self, pushdown, heads):
+    def __init__(self, pushdown, heads, measure):
         self.pushdown = pushdown
-        # For each ending that has been taken the length of its play.
+        self.measure = measure
+        # For each ending that has been taken the length of its play, by the measure.
         self.lengths = {}
         # For each ending the play that is the best one yet: (length, rule, ending of the first symbol or None,
         # ending by which the play goes on or None).
@@ -40,11 +41,11 @@ class ShortestPlays:
         """Offers what the rules of a head give at once, and keeps what they wait for."""
         for index, mark, q, w in self.pushdown.rules_from(head):
             if not w:
-                self.offer((head, 2 * q + mark), (1, index, None, None))
+                self.offer((head, 2 * q + mark), (self.measure.alone(index), index, None, None))
                 continue
             target = self.pushdown.head_at(q, w[0])
             if len(w) == 1:
-                self.add_tail(target, (head, mark), (1, index, None))
+                self.add_tail(target, (head, mark), (self.measure.alone(index), index, None))
             else:
                 self.calls[target].append((head, mark, w[1], index))
 
@@ -65,7 +66,8 @@ class ShortestPlays:
         """Offers the play that goes on with that of an ending."""
         head, mark = user
         size, index, first = ahead
-        self.offer((head, ending[1] | mark), (size + self.lengths[ending], index, first, ending))
+        whole = self.measure.joined(size, self.lengths[ending])
+        self.offer((head, ending[1] | mark), (whole, index, first, ending))
 
     def pass_ending(self, ending):
         """Tells a taken ending to all that wait for the endings of its head."""
@@ -74,7 +76,8 @@ class ShortestPlays:
             self.offer_tail(user, self.tails[target][user], ending)
         for head, mark, symbol, index in self.calls[target]:
             behind = self.pushdown.head_at(way_out >> 1, symbol)
-            self.add_tail(behind, (head, mark | way_out & 1), (1 + self.lengths[ending], index, ending))
+            ahead = self.measure.passing(index, self.lengths[ending])
+            self.add_tail(behind, (head, mark | way_out & 1), (ahead, index, ending))
 
     def row_of(self, ending):
         """The play of an ending as a list of pairs: rule, and the ending that is passed behind it, or None."""

@@ -1,6 +1,7 @@
-"""Each function and class of the interface that has landed stands in its file, with its arguments."""
+"""Each function and class of the interface stands in its file, with its arguments."""
 
 import ast
+import importlib
 import pathlib
 import unittest
 
@@ -34,7 +35,28 @@ FUNCTIONS = {
     "promisetext": {"promise_text": ["promise"], "read_promise": ["text"]},
     "product": {"product": ["program", "promise"]},
     "decide": {"decide": ["program", "promise"], "depth": ["program"], "can_say": ["program", "word"]},
+    "nested": {
+        "takes_word": ["machine", "word"], "meet": ["first", "second"], "union": ["first", "second"],
+        "certain": ["machine", "words"], "other": ["machine", "words"], "shortest_word": ["machine"],
+        "difference": ["first", "second", "words"],
+    },
+    "reports": {"report": ["program", "run", "n"]},
+    "tables": {
+        "table_of": ["machine", "states", "symbols"], "has": ["table", "configuration"], "meet": ["first", "second"],
+        "union": ["first", "second"], "minus": ["first", "second"], "least": ["table"], "difference": ["first", "second"],
+        "machine_of": ["table"],
+    },
+    "safety": {"safety": ["program", "danger"], "takes_safety": ["program", "danger", "machine"]},
+    "prices": {"few_calls": ["program", "word"], "price": ["rules", "tale"], "depth_needed": ["program", "word"]},
+    "counting": {
+        "count": ["table", "n"], "place_of": ["table", "configuration"], "configuration_at": ["table", "n", "place"],
+    },
+    "ending": {"always_ends": ["program"]},
+    "traces": {
+        "names_of": ["program"], "trace_machine": ["program"], "breach": ["program", "machine"], "apart": ["first", "second"],
+    },
 }
+METHODS = {("desk", "Desk"): {"__init__": ["self"], "answer": ["self", "text"]}}
 ERRORS = {
     "TowerError": None, "ProgramError": ["code", "proc"], "TextError": ["at"], "EndedError": ["code"], "PlayError": ["at"],
     "PromiseError": ["at"],
@@ -55,6 +77,19 @@ class InterfaceTest(unittest.TestCase):
                 self.assertIn(name, found, module)
                 self.assertEqual([arg.arg for arg in found[name].args.args], arguments, name)
                 self.assertEqual(found[name].args.defaults, [], name)
+
+    def test_methods(self):
+        for (module, name), methods in METHODS.items():
+            found = {node.name: node for node in defined(module, ast.ClassDef)[name].body if isinstance(node, ast.FunctionDef)}
+            for method, arguments in methods.items():
+                self.assertEqual([arg.arg for arg in found[method].args.args], arguments)
+                self.assertEqual(found[method].args.defaults, [])
+
+    def test_all_can_be_imported(self):
+        for module, names in list(FUNCTIONS.items()) + [(module, [name]) for module, name in METHODS] + [("errors", ERRORS)]:
+            found = importlib.import_module("calltowers." + module)
+            for name in names:
+                self.assertEqual(getattr(found, name).__module__, "calltowers." + module)
 
     def test_errors(self):
         found = defined("errors", ast.ClassDef)
