@@ -11,11 +11,11 @@ class Meeting:
         self.found = {}
         self.waiting = []
         self.moves = []
-        self.starts = tuple([self.reach(left, right) for left in first.starts for right in second.starts])
+        self.starts = tuple([self.number_at(left, right) for left in first.starts for right in second.starts])
         while self.waiting:
             self.add_moves(self.waiting.pop())
 
-    def reach(self, left, right):
+    def number_at(self, left, right):
         """The number of a pair of nodes; it waits for its moves if it is a new one."""
         if (left, right) not in self.found:
             self.found[(left, right)] = len(self.found)
@@ -27,9 +27,9 @@ class Meeting:
         node = self.found[pair]
         left, right = pair
         for near, far in same_words(self.first.plains.get(left, []), self.second.plains.get(right, [])):
-            self.moves.append(("plain", node, near[0], self.reach(near[1], far[1])))
+            self.moves.append(("plain", node, near[0], self.number_at(near[1], far[1])))
         for near, far in same_words(self.first.calls.get(left, []), self.second.calls.get(right, [])):
-            self.moves.append(("call", node, near[0], self.reach(near[1], far[1]), self.symbol_of(near[2], far[2])))
+            self.moves.append(("call", node, near[0], self.number_at(near[1], far[1]), self.symbol_of(near[2], far[2])))
         for symbol in self.first.leaving.get(left, {}):
             for other in self.second.leaving.get(right, {}):
                 # The stack is empty for both machines or for none of them.
@@ -41,7 +41,7 @@ class Meeting:
         left, right = pair
         taken = None if symbol is None else self.symbol_of(symbol, other)
         for near, far in same_words(self.first.backs[(left, symbol)], self.second.backs[(right, other)]):
-            self.moves.append(("back", self.found[pair], near[0], taken, self.reach(near[1], far[1])))
+            self.moves.append(("back", self.found[pair], near[0], taken, self.number_at(near[1], far[1])))
 
     def symbol_of(self, symbol, other):
         """The number of a pair of symbols."""

@@ -32,8 +32,8 @@ def meet(first, second):
 def union(first, second):
     """The machine that takes the words that at least one of two machines takes."""
     left, right = Moves(first), Moves(second)
-    starts, moves, finals = left.told(0, 0)
-    more_starts, more_moves, more_finals = right.told(len(left.nodes), len(left.symbols))
+    starts, moves, finals = left.shifted(0, 0)
+    more_starts, more_moves, more_finals = right.shifted(len(left.nodes), len(left.symbols))
     return (starts + more_starts, moves + more_moves, finals + more_finals)
 
 

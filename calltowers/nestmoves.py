@@ -40,7 +40,7 @@ class Moves:
             self.backs.setdefault((start, symbol), []).append((word, self.node_at[move[4]]))
             self.leaving.setdefault(start, {})[symbol] = True
 
-    def told(self, more_nodes, more_symbols):
+    def shifted(self, more_nodes, more_symbols):
         """The machine with these moves, its nodes and symbols being greater by so much."""
         moves = [("plain", node + more_nodes, word, target + more_nodes)
                  for node in self.plains for word, target in self.plains[node]]

@@ -17,9 +17,9 @@ class Routes:
         # For each head the length of the shortest play to it, and its last step with the head from which this leads.
         self.distance = {start: self.measure.nothing() for start in starts}
         self.last = {start: None for start in starts}
-        self.run(starts)
+        self.spread(starts)
 
-    def run(self, starts):
+    def spread(self, starts):
         """Looks at the heads in the order of their distances (Dijkstra)."""
         queue = [(self.measure.nothing(), start) for start in sorted(starts)]
         while queue:

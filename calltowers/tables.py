@@ -2,6 +2,7 @@
 
 from calltowers.numbered import Numbering, places_of
 from calltowers.order import rank
+from calltowers.partition import Partition
 from calltowers.stacks import in_order
 from calltowers.tableviews import Both, Subsets
 
@@ -69,26 +70,13 @@ class Classes:
 
     def __init__(self, table):
         self.moves = table[3]
-        self.classes = [0 for _ in self.moves]
-        for node in table[4]:
-            self.classes[node] = 1
-        many = 0
-        # Classes are only ever divided, so they are complete when none has become more.
-        while many < len(set(self.classes)):
-            many = len(set(self.classes))
-            self.divide()
+        finals = {node: True for node in table[4]}
+        rows = [[(at, (target,)) for at, target in enumerate(row)] for row in self.moves]
+        first_classes = [1 if node in finals else 0 for node in range(len(self.moves))]
+        self.classes = Partition(rows, first_classes).classes
         self.finals = {self.classes[node]: True for node in table[4]}
         # For each class one of its nodes.
         self.sample = {own: node for node, own in enumerate(self.classes)}
-
-    def divide(self):
-        """Divides the classes by what the moves lead to."""
-        numbers = {}
-        found = []
-        for own, row in zip(self.classes, self.moves):
-            key = (own, tuple([self.classes[target] for target in row]))
-            found.append(numbers.setdefault(key, len(numbers)))
-        self.classes = found
 
     def row_of(self, own):
         """The classes to which the moves of a class lead."""

@@ -29,7 +29,7 @@ class WordSearch:
         # The final items of the shortest words.
         self.goals = []
         for node in view.starts:
-            self.offer((OUTERMOST, node), 0, None)
+            self.keep_way((OUTERMOST, node), 0, None)
         self.run()
 
     def run(self):
@@ -39,12 +39,15 @@ class WordSearch:
             length, item = heappop(self.queue)
             if best is not None and length > best:
                 return
+            if length > self.ahead[item[0]] + self.size[item]:
+                # A shorter way has been found since it was put there.
+                continue
             if self.view.is_final(item[1]):
                 best = length
                 self.goals.append(item)
             self.look(item)
 
-    def offer(self, item, size, way):
+    def keep_way(self, item, size, way):
         """Keeps a way to an item, if there is no shorter one; nothing longer comes ahead of something shorter."""
         if item not in self.size or size < self.size[item]:
             self.size[item] = size
@@ -58,18 +61,18 @@ class WordSearch:
         begun, node = item
         size = self.size[item]
         for letter, target in self.view.plains_from(node):
-            self.offer((begun, target), size + 1, (item, letter, None, None))
+            self.keep_way((begun, target), size + 1, (item, letter, None, None))
         for letter, target, symbol in self.view.calls_from(node):
-            self.enter(item, letter, target, symbol)
+            self.enter_call(item, letter, target, symbol)
         if begun == OUTERMOST:
             for letter, target in self.view.backs_from(node, None):
-                self.offer((begun, target), size + 1, (item, letter, None, None))
+                self.keep_way((begun, target), size + 1, (item, letter, None, None))
         elif self.view.has_backs(node):
             self.exits[begun].append(item)
             for symbol in self.sites[begun]:
-                self.come_back(self.sites[begun][symbol], symbol, item)
+                self.leave_calls(self.sites[begun][symbol], symbol, item)
 
-    def enter(self, item, letter, target, symbol):
+    def enter_call(self, item, letter, target, symbol):
         """A call leads from an item to a target: it can stay open, or come back as it has done already."""
         length = self.ahead[item[0]] + self.size[item] + 1
         if target not in self.ahead:
@@ -77,17 +80,17 @@ class WordSearch:
             self.sites[target] = {}
             self.exits[target] = []
         if length == self.ahead[target]:
-            self.offer((target, target), 0, (item, letter, None, None))
+            self.keep_way((target, target), 0, (item, letter, None, None))
         self.sites[target].setdefault(symbol, []).append((item, letter))
         for last in self.exits[target]:
-            self.come_back([(item, letter)], symbol, last)
+            self.leave_calls([(item, letter)], symbol, last)
 
-    def come_back(self, sites, symbol, last):
+    def leave_calls(self, sites, symbol, last):
         """Calls with this symbol come back from their last item."""
         for letter, target in self.view.backs_from(last[1], symbol):
             for item, call in sites:
                 size = self.size[item] + self.size[last] + 2
-                self.offer((item[0], target), size, (item, call, last, letter))
+                self.keep_way((item[0], target), size, (item, call, last, letter))
 
 
 def least_word(view):
@@ -104,8 +107,8 @@ class WordWriter:
     """The writing of the least one of the shortest words, letter by letter.
 
     A context is an open call, or the whole word: (the ways onward from each item, the item in which it comes back or
-    None, and the list of what it comes back to: letter, context, item). All places where the writing can be, pairs
-    of a context and an item, have the same letters behind them.
+    None, and the list of what it comes back to: letter, context, item). The writing can be in several places, pairs of
+    a context and an item, to which the letters lead that have been written.
     """
 
     def __init__(self, search):
@@ -126,7 +129,8 @@ class WordWriter:
         waiting = list(goals)
         while waiting:
             item = waiting.pop()
-            for before, letter, last, back in ([] if item == root else self.search.ways[item]):
+            ways = [] if item == root else self.search.ways[item]
+            for before, letter, last, back in ways:
                 if before not in onward:
                     onward[before] = []
                     waiting.append(before)

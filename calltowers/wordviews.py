@@ -94,14 +94,16 @@ class Apart:
     def plains_from(self, node):
         """The list of what plain letters lead to: (letter, node)."""
         left, right = self.pairs.things[node]
-        words = {**self.first.plains_from(left), **self.second.plains_from(right)}
+        lefts, rights = self.first.plains_from(left), self.second.plains_from(right)
+        words = {**lefts, **rights}
         return [(("plain", word), self.pairs.place_of((self.first.plain(left, word), self.second.plain(right, word))))
                 for word in words]
 
     def calls_from(self, node):
         """The list of what calls lead to: (letter, node, symbol)."""
         left, right = self.pairs.things[node]
-        words = {**self.first.calls_from(left), **self.second.calls_from(right)}
+        lefts, rights = self.first.calls_from(left), self.second.calls_from(right)
+        words = {**lefts, **rights}
         rows = []
         for word in words:
             near, symbol = self.first.call(left, word)

@@ -338,6 +338,13 @@ class DifferenceTest(unittest.TestCase):
         self.assertEqual(difference(BRACKETS, OPENS, ()), ())
         self.assertIsNone(difference(BRACKETS, ((0,), (), (0,)), ("q",)))
 
+    def test_long_machines(self):
+        many = 1500
+        moves = tuple(("plain", at, "a", at + 1) for at in range(many)) + (("call", many, "p", many, 0), ("back", many, "p", 0, many))
+        first, second = ((0,), moves, (many,)), ((0,), moves + (("back", many, "p", None, many),), (many,))
+        self.assertEqual(difference(first, second, ("a", "p")), (plain("a"),) * many + (back("p"),))
+        self.assertIsNone(difference(first, first, ("a", "p")))
+
     def test_the_given_machines_stay(self):
         given = copy.deepcopy((BRACKETS, OPENS))
         difference(BRACKETS, OPENS, ("p", "a"))

@@ -151,7 +151,7 @@ class TableTest(unittest.TestCase):
         self.assertEqual(least((("p", "q", "r"), (), (2, 1, 0), ((), (), ()), (0, 2))), (("p", "q", "r"), (), (0, 1, 0), ((), ()), (0,)))
 
     def test_least_of_long_stacks(self):
-        many = 60
+        many = 1500
         machine = (tuple((("n", at) if at else 0, 3, ("n", at + 1)) for at in range(many)), (("n", many),))
         table = least(table_of(machine, (0,), (3,)))
         self.assertEqual(table[2:], ((0,), tuple((min(at + 1, many + 1),) for at in range(many + 2)), (many,)))
