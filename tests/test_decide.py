@@ -394,6 +394,14 @@ class SayTest(unittest.TestCase):
             says = tuple(say("b") for _ in range(many))
             told = program((("either", says, (call("p"), call("p"))), say("a")), {"p": ((), (), ())})
             self.assert_says(told, "a", 1 + min(many, 6) + 1)
+        # Many calls: each rule counts as much as each other one.
+        for many in (29, 31):
+            told = program((("either", (say("b"),) * many, (call("p"),) * 10), say("a")), {"p": ((), (), ())})
+            self.assert_says(told, "a", 1 + min(many, 30) + 1)
+        for many in (7, 9):
+            told = program((("either", (say("b"),) * many, (call("p"),)), say("a")),
+                           {"p": ((), (), (call("q"),)), "q": ((), (), (("either", (), ()),))})
+            self.assert_says(told, "a", 1 + min(many, 7) + 1)
         # Recursion, but no deeper than needed.
         self.assert_says(SWIMS, "a", 4)
 

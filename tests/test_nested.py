@@ -338,6 +338,22 @@ class DifferenceTest(unittest.TestCase):
         self.assertEqual(difference(BRACKETS, OPENS, ()), ())
         self.assertIsNone(difference(BRACKETS, ((0,), (), (0,)), ("q",)))
 
+    def test_nodes_that_differ_by_what_their_calls_put(self):
+        moves = [("plain", 0, name, at) for at, name in enumerate("abc", 1)]
+        moves += [("call", at, "p", 4, at) for at in (1, 2, 3)] + [("back", 4, "p", at, 4 + at) for at in (1, 2, 3)]
+        moves += [("plain", 5, "a", 8), ("plain", 6, "b", 8), ("plain", 7, "a", 8)]
+        # What stands behind counts for nothing, and is alike.
+        moves += [("plain", at, "c", 8) for at in range(10, 20)]
+        machine = ((0,), tuple(moves), (8,))
+        sure, words = certain(machine, ("a", "b", "c", "p")), ("a", "b", "c", "p")
+        for first, last in itertools.product("abc", repeat=2):
+            word = (plain(first), call("p"), back("p"), plain(last))
+            self.assertIs(takes_word(sure, word), (first, last) in {("a", "a"), ("b", "b"), ("c", "a")})
+        same = ((0,), tuple(move for move in moves if move[:3] != ("plain", 0, "c")) + (("plain", 0, "c", 1),), (8,))
+        self.assertIsNone(difference(machine, same, words))
+        other_way = ((0,), tuple(move for move in moves if move[:3] != ("plain", 0, "c")) + (("plain", 0, "c", 2),), (8,))
+        self.assertEqual(difference(machine, other_way, words), (plain("c"), call("p"), back("p"), plain("a")))
+
     def test_long_machines(self):
         many = 1500
         moves = tuple(("plain", at, "a", at + 1) for at in range(many)) + (("call", many, "p", many, 0), ("back", many, "p", 0, many))
