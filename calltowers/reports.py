@@ -11,11 +11,12 @@ def report(program, run, n):
     turn = written_out(parts, loop, n - len(numbers))
     while turn and len(numbers) < n:
         numbers.extend(turn[:n - len(numbers)])
-    return "\n".join(lines_of(rules_of(program), numbers))
+    # The last line ends with a newline like the others, so a report of no steps is the empty text.
+    return "".join([line + "\n" for line in lines_of(rules_of(program), numbers)])
 
 
 def lines_of(rules, numbers):
-    """The list of the lines for these rules, as far as the stack is not empty ahead of them."""
+    """The list of the lines for these rules, without their newlines, as far as the stack is not empty ahead of them."""
     lines = []
     deep = 1
     for at, number in enumerate(numbers):

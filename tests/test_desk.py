@@ -137,9 +137,11 @@ class DeskTest(unittest.TestCase):
         desk = desk_with(TEXT, ("a", "say:b"), ("b", "yes"))
         rows = ["0 1 quiet", "1 2 call p", "2 2 say a", "3 1 back p", "4 1 quiet", "5 1 quiet", "6 2 call p"]
         for n in range(8):
-            self.assert_answers(desk, (f"REPORT a {n}", "\n".join(rows[:n])), (f"REPORT b {n}", "KEPT"), (f"REPORT c {n}", NO))
-        self.assertEqual(len(desk.answer("REPORT a 1000").split("\n")), 1000)
-        self.assertEqual(desk.answer("REPORT a 999"), "\n".join(desk.answer("REPORT a 1000").split("\n")[:-1]))
+            self.assert_answers(desk, (f"REPORT a {n}", "".join(row + "\n" for row in rows[:n])), (f"REPORT b {n}", "KEPT"), (f"REPORT c {n}", NO))
+        told = desk.answer("REPORT a 1000").splitlines(keepends=True)
+        self.assertEqual(len(told), 1000)
+        self.assertEqual(told[-1], "999 1 quiet\n")
+        self.assertEqual(desk.answer("REPORT a 999"), "".join(told[:-1]))
 
     def test_numbers(self):
         desk = desk_with(TEXT, ("a", "say:b"), ("b", "yes"))
@@ -217,7 +219,7 @@ class DeskTest(unittest.TestCase):
                 self.assert_answers(desk, ("DECIDE x", "BROKEN {} {}".format(*sizes)), ("REPORT x 9", report(told, paper, 9)))
 
     def test_the_order_of_commands_does_not_matter(self):
-        commands = (("DECIDE a", broken(CALLS, "say:b")), ("REPORT a 1", "0 1 quiet"), ("DEPTH", "DEEP 2"), ("CAN a", "YES 3"))
+        commands = (("DECIDE a", broken(CALLS, "say:b")), ("REPORT a 1", "0 1 quiet\n"), ("DEPTH", "DEEP 2"), ("CAN a", "YES 3"))
         for order in itertools.permutations(commands):
             self.assert_answers(desk_with(TEXT, ("a", "say:b")), *order)
 

@@ -12,7 +12,14 @@ from tests.samples import DEEP, ONE, ZERO, program, var
 
 
 def lines(*rows):
-    return "\n".join(rows)
+    """The text of these lines: each one ends with a newline, the last one too."""
+    return "".join(row + "\n" for row in rows)
+
+
+def rows_of(text):
+    """The lines of a report, which is not empty, without their newlines."""
+    assert text.endswith("\n")
+    return text[:-1].split("\n")
 
 
 def call(proc):
@@ -41,6 +48,15 @@ class ReportTest(unittest.TestCase):
         self.assertEqual(report(TALKS, talks_run(), 0), "")
         self.assertEqual(report(program(), ((), (0,), ()), 0), "")
 
+    def test_each_line_ends_with_a_newline(self):
+        run = talks_run()
+        self.assertEqual(report(TALKS, run, 1), "0 1 say a\n")
+        self.assertEqual(report(TALKS, run, 3), "0 1 say a\n1 1 quiet\n2 2 call p\n")
+        for n in range(1, 20):
+            self.assertEqual(report(TALKS, run, n).count("\n"), n)
+        # Also where the run ends before the number of steps.
+        self.assertEqual(report(program((("say", "a"),)), ((), (0, 1), ()), 9), "0 1 say a\n1 0 back main\n")
+
     def test_marks_of_each_kind_and_the_depth_behind_each_step(self):
         rows = ["0 1 say a", "1 1 quiet", "2 2 call p", "3 2 say b", "4 1 back p", "5 1 quiet", "6 1 quiet", "7 2 call p",
                 "8 2 say b", "9 1 back p", "10 1 quiet", "11 1 quiet", "12 2 call p"]
@@ -48,14 +64,15 @@ class ReportTest(unittest.TestCase):
             self.assertEqual(report(TALKS, talks_run(), n), lines(*rows[:n]))
 
     def test_far_into_the_round(self):
-        rows = report(TALKS, talks_run(), 1000).split("\n")
+        rows = rows_of(report(TALKS, talks_run(), 1000))
         self.assertEqual(len(rows), 1000)
         self.assertEqual(rows[996:], ["996 1 quiet", "997 2 call p", "998 2 say b", "999 1 back p"])
         self.assertEqual([row.split(" ")[0] for row in rows], [str(at) for at in range(1000)])
 
     def test_no_blank_at_the_end_of_a_line(self):
-        for row in report(TALKS, talks_run(), 50).split("\n"):
+        for row in rows_of(report(TALKS, talks_run(), 50)):
             self.assertEqual(row, row.strip())
+            self.assertNotEqual(row, "")
             self.assertNotIn("  ", row)
 
     def test_a_run_that_ends(self):
@@ -90,7 +107,7 @@ class ReportTest(unittest.TestCase):
     def test_a_stack_that_grows(self):
         told = program((call("main"),))
         self.assertEqual(report(told, ((), (), (0,)), 3), lines("0 2 call main", "1 3 call main", "2 4 call main"))
-        self.assertEqual(report(told, ((), (), (0,)), 1000).split("\n")[-1], "999 1001 call main")
+        self.assertEqual(rows_of(report(told, ((), (), (0,)), 1000))[-1], "999 1001 call main")
 
     def test_parts_in_parts_that_are_far_too_long(self):
         told = program((("while", ONE, (call("p"),)),), {
@@ -104,7 +121,7 @@ class ReportTest(unittest.TestCase):
         loops = (turn,) + tuple((-1 - at, -1 - at) for at in range(200))
         for run in (((), (), turn), (loops, (-201,), turn), (loops, (), (-201,)), (loops, turn, (-150,))):
             self.assertEqual(report(told, run, 7), rows)
-            self.assertEqual(len(report(told, run, 500).split("\n")), 500)
+            self.assertEqual(len(rows_of(report(told, run, 500))), 500)
 
     def test_runs_that_break_promises(self):
         reported = 0
